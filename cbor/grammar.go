@@ -46,7 +46,7 @@ func (r *Reader) wantItem() {
 // scalar goes on by a value without parts.
 func (r *Reader) scalar(e api.Event) {
 	r.wantItem()
-	r.tell(e)
+	r.out.Tell(e)
 	r.endItem()
 }
 
@@ -72,9 +72,9 @@ func (r *Reader) beginRecord(parts bool, n uint64) {
 // begin goes on by a list or a record of n elements.
 func (r *Reader) begin(e api.Event, parts bool, n uint64) {
 	r.wantItem()
-	r.tell(e)
+	r.out.Tell(e)
 	if n > api.MaxItems {
-		r.pass()
+		r.out.Pass()
 	}
 	r.open = append(r.open, part{kind: e.Kind, parts: parts, left: n})
 	r.goOn()
@@ -82,7 +82,7 @@ func (r *Reader) begin(e api.Event, parts bool, n uint64) {
 
 // beginTag goes on by a tag's name; its list has begun already.
 func (r *Reader) beginTag(name string) {
-	r.tell(api.Event{Kind: api.EvTag, Text: name})
+	r.out.Tell(api.Event{Kind: api.EvTag, Text: name})
 	r.wait = forItem
 }
 
@@ -103,7 +103,7 @@ func (r *Reader) goOn() {
 
 // end tells that the innermost list, record or tag has ended.
 func (r *Reader) end() {
-	r.tell(api.Event{Kind: api.EvEnd})
+	r.out.Tell(api.Event{Kind: api.EvEnd})
 	r.open = r.open[:len(r.open)-1]
 	r.endItem()
 }
@@ -181,9 +181,9 @@ func (r *Reader) takeNumber() {
 	if e == api.OK {
 		told = api.Event{Kind: api.EvNum, Num: n}
 	} else {
-		r.pass()
+		r.out.Pass()
 	}
-	r.tell(told)
+	r.out.Tell(told)
 	inParts := r.number.parts
 	r.number = number{}
 	if inParts {

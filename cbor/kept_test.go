@@ -8,14 +8,14 @@ import (
 	"calamus/api"
 )
 
-// A reader that has ended, well or not, keeps nothing but its answer.
+// A reader that has ended, well or not, keeps nothing but its answer, by its teller.
 func TestNothingKept(t *testing.T) {
 	for s, want := range map[string]api.Errno{"\x82\x00\xa1\x61a\x61b": api.ErrCbor, "\x83\x00\xa1\x61a\x61b": api.ErrCbor, "\x82\x00\xa1\x61a\x61b\x00": api.ErrCbor, "\x82\x00\x61\xff": api.ErrCbor, "\xc4\x82\x19\x01\x91\x01": api.ErrLimit, strings.Repeat("\x82\x61a", 30): api.ErrLimit, "\xc2\x49\x01": api.ErrCbor} {
 		r := New()
 		r.Feed([]byte(s))
 		r.End()
-		if !reflect.DeepEqual(*r, Reader{ended: want}) {
-			t.Errorf("P8.3: behind % x: %+v", s, *r)
+		if _, e := r.End(); e != want || !reflect.DeepEqual(*r, Reader{out: r.out}) {
+			t.Errorf("P8.3: behind % x: %+v, %d", s, *r, e)
 		}
 	}
 }
@@ -29,7 +29,7 @@ func TestLittleKept(t *testing.T) {
 		if _, e := r.Feed([]byte(s)); e != api.OK {
 			t.Fatalf("P8.3: Feed = %d", e)
 		}
-		if r.told != nil || !reflect.DeepEqual(r.row, row{}) || r.number != (number{}) || len(r.open) != 1 {
+		if !reflect.DeepEqual(r.row, row{}) || r.number != (number{}) || len(r.open) != 1 {
 			t.Errorf("P8.3: kept: %+v", r)
 		}
 	}

@@ -38,7 +38,7 @@ func (r *Reader) beginPiece(major byte, n uint64) {
 		panic(api.ErrCbor)
 	}
 	if r.wait != forBig && n > uint64(api.MaxText-len(r.row.held)) {
-		r.pass()
+		r.out.Pass()
 	}
 	r.row.left = int(min(n, api.MaxBytes+1)) // so many do not come: one limit or the other is passed ahead of that
 	r.row.from = len(r.row.held)
@@ -52,7 +52,7 @@ func (r *Reader) takeInRow(c byte) {
 	if r.wait != forBig {
 		r.row.held = append(r.row.held, c)
 	} else if !r.number.natural.put(c) {
-		r.pass()
+		r.out.Pass()
 	}
 	r.row.left--
 	if r.row.left == 0 {
@@ -77,7 +77,7 @@ func (r *Reader) endRow() {
 	case r.wait == forBig:
 		r.takeNumber()
 	case r.wait == forName:
-		r.tell(api.Event{Kind: api.EvName, Text: s})
+		r.out.Tell(api.Event{Kind: api.EvName, Text: s})
 		r.wait = forItem
 	case r.wait == forTagName:
 		r.beginTag(s)

@@ -4,48 +4,33 @@ import (
 	"calamus/api"
 	"calamus/fbits"
 	"calamus/num"
+	"calamus/scribe"
 )
 
-// writer lays a document out. It gives up where that would be too long.
+// writer lays a document out.
 type writer struct {
-	out []byte
-}
-
-func (w *writer) put(s string) {
-	if len(s) > api.MaxBytes-len(w.out) {
-		panic(api.ErrLimit)
-	}
-	w.out = append(w.out, s...)
-}
-
-// fixed writes n as so many bytes, the highest first.
-func (w *writer) fixed(n uint64, width int) {
-	var b [8]byte
-	for i := range b {
-		b[i] = byte(n >> (56 - 8*i))
-	}
-	w.put(string(b[len(b)-width:]))
+	*scribe.Scribe
 }
 
 // head writes a short head.
-func (w *writer) head(major byte, n uint64) {
+func (w writer) head(major byte, n uint64) {
 	if n <= infoGreatest {
-		w.fixed(uint64(major)<<5|n, 1)
+		w.Fixed(uint64(major)<<5|n, 1)
 		return
 	}
 	info, width := uint64(infoByte), 1
 	for n>>(8*width) > 0 {
 		info, width = info+1, 2*width
 	}
-	w.fixed(uint64(major)<<5|info, 1)
-	w.fixed(n, width)
+	w.Fixed(uint64(major)<<5|info, 1)
+	w.Fixed(n, width)
 }
 
 // value writes v, which was checked.
-func (w *writer) value(v api.Value) {
+func (w writer) value(v api.Value) {
 	switch v.Kind {
 	case api.KindNull:
-		w.fixed(firstNull, 1)
+		w.Fixed(firstNull, 1)
 	case api.KindBool:
 		w.flag(v.Flag)
 	case api.KindNum:
@@ -68,41 +53,41 @@ func (w *writer) value(v api.Value) {
 	}
 }
 
-func (w *writer) flag(b bool) {
+func (w writer) flag(b bool) {
 	if b {
-		w.fixed(firstTrue, 1)
+		w.Fixed(firstTrue, 1)
 	} else {
-		w.fixed(firstFalse, 1)
+		w.Fixed(firstFalse, 1)
 	}
 }
 
-func (w *writer) float(b uint64) {
+func (w writer) float(b uint64) {
 	width, pattern := fbits.Narrow(b)
 	switch width {
 	case 16:
-		w.fixed(firstFloat16, 1)
+		w.Fixed(firstFloat16, 1)
 	case 32:
-		w.fixed(firstFloat32, 1)
+		w.Fixed(firstFloat32, 1)
 	default:
-		w.fixed(firstFloat64, 1)
+		w.Fixed(firstFloat64, 1)
 	}
-	w.fixed(pattern, width/8)
+	w.Fixed(pattern, width/8)
 }
 
 // string writes a text, or bytes.
-func (w *writer) string(major byte, s string) {
+func (w writer) string(major byte, s string) {
 	w.head(major, uint64(len(s)))
-	w.put(s)
+	w.Put(s)
 }
 
-func (w *writer) list(l []api.Value) {
+func (w writer) list(l []api.Value) {
 	w.head(majorList, uint64(len(l)))
 	for _, v := range l {
 		w.value(v)
 	}
 }
 
-func (w *writer) record(v api.Value) {
+func (w writer) record(v api.Value) {
 	w.head(majorRecord, uint64(len(v.Names)))
 	for i, name := range v.Names {
 		w.string(majorText, name)
@@ -110,7 +95,7 @@ func (w *writer) record(v api.Value) {
 	}
 }
 
-func (w *writer) number(n api.Num) {
+func (w writer) number(n api.Num) {
 	if n.Exp >= 0 && len(n.Digits)+n.Exp <= api.MaxDigits {
 		w.whole(n)
 		return
@@ -122,7 +107,7 @@ func (w *writer) number(n api.Num) {
 	w.whole(n)
 }
 
-func (w *writer) power(exp int) {
+func (w writer) power(exp int) {
 	if exp < 0 {
 		w.head(majorBelow, uint64(-1-exp))
 	} else {
@@ -131,7 +116,7 @@ func (w *writer) power(exp int) {
 }
 
 // whole writes a whole number that has at most 40 places, so that neither call on it fails.
-func (w *writer) whole(n api.Num) {
+func (w writer) whole(n api.Num) {
 	major, mark := byte(majorWhole), uint64(markBig)
 	if n.Neg {
 		major, mark = majorBelow, markBigBelow

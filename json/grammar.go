@@ -5,7 +5,6 @@ import (
 
 	"calamus/api"
 	"calamus/fbits"
-	"calamus/num"
 )
 
 // wait is what has to come next in a document.
@@ -119,33 +118,20 @@ func (r *Reader) takeWord(s string) {
 	}
 	switch s {
 	case "null":
-		r.tell(api.Event{Kind: api.EvNull})
+		r.out.Tell(api.Event{Kind: api.EvNull})
 	case "true", "false":
-		r.tell(api.Event{Kind: api.EvBool, Flag: s == "true"})
+		r.out.Tell(api.Event{Kind: api.EvBool, Flag: s == "true"})
 	default:
-		r.tell(r.number(s))
+		r.out.TellNumber(s)
 	}
 	r.endValue()
-}
-
-// number is a number's event; null stands for one that is beyond the limits, which is not told.
-func (r *Reader) number(s string) api.Event {
-	n, e := num.Parse(s)
-	switch e {
-	case api.OK:
-		return api.Event{Kind: api.EvNum, Num: n}
-	case api.ErrLimit:
-		r.pass()
-		return api.Event{Kind: api.EvNull}
-	}
-	panic(api.ErrJson)
 }
 
 // takeText goes on by a text, whatever it is there.
 func (r *Reader) takeText(s string) {
 	switch r.wait {
 	case forValue, forFirst:
-		r.tell(api.Event{Kind: api.EvText, Text: s})
+		r.out.Tell(api.Event{Kind: api.EvText, Text: s})
 		r.endValue()
 	case forFirstName:
 		r.firstName(s)
@@ -185,7 +171,7 @@ func (r *Reader) firstName(s string) {
 
 // name goes on by a record's name.
 func (r *Reader) name(s string) {
-	r.tell(api.Event{Kind: api.EvName, Text: s})
+	r.out.Tell(api.Event{Kind: api.EvName, Text: s})
 	r.wait, r.behind = forColon, forValue
 }
 
@@ -194,7 +180,7 @@ func (r *Reader) float(s string) {
 	if e != api.OK {
 		panic(api.ErrJson)
 	}
-	r.tell(api.Event{Kind: api.EvFloat, Bits: bits})
+	r.out.Tell(api.Event{Kind: api.EvFloat, Bits: bits})
 	r.wait = forBrace
 }
 
@@ -203,19 +189,19 @@ func (r *Reader) bytes(s string) {
 	if !ok {
 		panic(api.ErrJson)
 	}
-	r.tell(api.Event{Kind: api.EvBytes, Text: b})
+	r.out.Tell(api.Event{Kind: api.EvBytes, Text: b})
 	r.wait = forBrace
 }
 
 // begin tells the event by which a list, a record or a tag begins.
 func (r *Reader) begin(e api.Event) {
-	r.tell(e)
+	r.out.Tell(e)
 	r.open = append(r.open, e.Kind)
 }
 
 // end tells that the innermost of them has ended.
 func (r *Reader) end() {
-	r.tell(api.Event{Kind: api.EvEnd})
+	r.out.Tell(api.Event{Kind: api.EvEnd})
 	r.open = r.open[:len(r.open)-1]
 }
 

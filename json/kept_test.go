@@ -8,14 +8,14 @@ import (
 	"calamus/api"
 )
 
-// A reader that has ended, well or not, keeps nothing but its answer.
+// A reader that has ended, well or not, keeps nothing but its answer, by its teller.
 func TestNothingKept(t *testing.T) {
 	for s, want := range map[string]api.Errno{`[1,{"a":"b"}]`: api.ErrJson, `[1,{"a":"b"}`: api.ErrJson, `[1,{"a":"b"]`: api.ErrJson, `[1e999]`: api.ErrLimit, strings.Repeat(`["a",`, 30): api.ErrLimit} {
 		r := New()
 		r.Feed([]byte(s))
 		r.End()
-		if !reflect.DeepEqual(*r, Reader{ended: want}) {
-			t.Errorf("P7.3: behind %s: %+v", s, *r)
+		if _, e := r.End(); e != want || !reflect.DeepEqual(*r, Reader{out: r.out}) {
+			t.Errorf("P7.3: behind %s: %+v, %d", s, *r, e)
 		}
 	}
 }
@@ -28,7 +28,7 @@ func TestLittleKept(t *testing.T) {
 		if _, e := r.Feed([]byte(`"` + strings.Repeat("a", 4096) + `",{"$bytes":"` + strings.Repeat("0", 300) + `"},123,`)); e != api.OK {
 			t.Fatalf("P7.3: Feed = %d", e)
 		}
-		if r.told != nil || r.word != nil || r.quoted.held != nil || len(r.open) != 1 {
+		if r.word != nil || r.quoted.held != nil || len(r.open) != 1 {
 			t.Errorf("P7.3: kept: %+v", r)
 		}
 	}

@@ -4,90 +4,59 @@ import (
 	"strings"
 
 	"calamus/api"
-	"calamus/event"
-	"calamus/tally"
+	"calamus/teller"
 )
-
-// Of at most fewBytes bytes it must be known whether they are a document at all, ahead of telling that a limit is passed (P7.2).
-const fewBytes = 16
 
 // Between words (null, true, false and numbers) stand blanks, and the bytes that mean something by themselves.
 const notInWords = " \t\n\r[]{},:\""
 
-// Reader reads a document that comes in parts. It goes byte by byte, so that parts make no difference.
+// Reader reads a document that comes in parts.
 type Reader struct {
-	ended   api.Errno // what each further call answers, if it is not OK
-	total   int       // bytes that came
-	passed  bool      // a limit: nothing is told any more
-	word    []byte    // as far as it has come
-	quoted  quoted
-	wait    wait
-	behind  wait            // what to wait for behind a `:`
-	open    []api.EventKind // lists, records and tags, the innermost one last
-	checker *event.Checker
-	tally   *tally.Tally
-	told    []api.Event // by the call that is going on
+	out    *teller.Teller
+	word   []byte // as far as it has come
+	quoted quoted
+	wait   wait
+	behind wait            // what to wait for behind a `:`
+	open   []api.EventKind // lists, records and tags, the innermost one last
 }
 
 // New is P7.3.
 func New() *Reader {
-	return &Reader{checker: event.New(), tally: tally.New()}
+	return &Reader{out: teller.New(api.ErrJson)}
 }
 
 // Feed is P7.3.
 func (r *Reader) Feed(b []byte) ([]api.Event, api.Errno) {
-	return r.attempt(func() {
-		for _, c := range b {
-			r.take(c)
-		}
-	})
-}
-
-// End is P7.3.
-func (r *Reader) End() ([]api.Event, api.Errno) {
-	l, e := r.attempt(r.finish)
-	if e == api.OK {
-		*r = Reader{ended: api.ErrJson}
+	if r == nil {
+		return nil, api.ErrNil
+	}
+	l, e := r.out.Feed(b, r.take)
+	if e != api.OK {
+		*r = Reader{out: r.out} // no more is asked of it
 	}
 	return l, e
 }
 
-// attempt answers the events that do tells. If it gives up, nothing is told from then on but why.
-func (r *Reader) attempt(do func()) (l []api.Event, e api.Errno) {
+// End is P7.3.
+func (r *Reader) End() ([]api.Event, api.Errno) {
 	if r == nil {
 		return nil, api.ErrNil
 	}
-	if r.ended != api.OK {
-		return nil, r.ended
-	}
-	defer func() {
-		if gave, ok := recover().(api.Errno); ok {
-			*r = Reader{ended: gave}
-			l, e = nil, gave
-		}
-	}()
-	do()
-	l, r.told = r.told, nil
-	return l, api.OK
+	l, e := r.out.End(r.finish)
+	*r = Reader{out: r.out}
+	return l, e
 }
 
 // finish goes on by the end of all bytes.
 func (r *Reader) finish() {
 	r.endWord()
-	switch {
-	case r.wait != forNothing || r.quoted.place != outside:
+	if r.wait != forNothing || r.quoted.place != outside {
 		panic(api.ErrJson)
-	case r.passed:
-		panic(api.ErrLimit)
 	}
 }
 
 // take goes on by the next byte.
 func (r *Reader) take(c byte) {
-	r.total++
-	if r.passed || r.total > api.MaxBytes {
-		r.pass()
-	}
 	switch {
 	case r.quoted.place != outside:
 		if r.quoted.take(c) {
@@ -101,14 +70,6 @@ func (r *Reader) take(c byte) {
 		r.endWord()
 		r.takeMark(c)
 	}
-}
-
-// pass notes that a limit is passed, and gives up if that can be told already.
-func (r *Reader) pass() {
-	if r.total > fewBytes {
-		panic(api.ErrLimit)
-	}
-	r.passed = true
 }
 
 func (r *Reader) holdWord(c byte) {
@@ -126,17 +87,4 @@ func (r *Reader) endWord() {
 	s := string(r.word)
 	r.word = nil
 	r.takeWord(s)
-}
-
-// tell tells an event, unless no value goes on so, or a limit is passed.
-func (r *Reader) tell(e api.Event) {
-	if r.checker.Feed(e) != api.OK { // a name stands there twice
-		panic(api.ErrJson)
-	}
-	if r.tally.Take(e) != api.OK {
-		r.pass()
-	}
-	if !r.passed {
-		r.told = append(r.told, e)
-	}
 }

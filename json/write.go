@@ -6,30 +6,24 @@ import (
 	"calamus/api"
 	"calamus/fbits"
 	"calamus/num"
+	"calamus/scribe"
 )
 
-// writer lays a document out. It gives up where that would be too long, since a value within the limits may have a document many times as long.
+// writer lays a document out.
 type writer struct {
-	out []byte
-}
-
-func (w *writer) put(s string) {
-	if len(s) > api.MaxBytes-len(w.out) {
-		panic(api.ErrLimit)
-	}
-	w.out = append(w.out, s...)
+	*scribe.Scribe
 }
 
 // value writes v, which was checked.
-func (w *writer) value(v api.Value) {
+func (w writer) value(v api.Value) {
 	switch v.Kind {
 	case api.KindNull:
-		w.put("null")
+		w.Put("null")
 	case api.KindBool:
 		w.flag(v.Flag)
 	case api.KindNum:
 		s, _ := num.Print(v.Num) // it is a number
-		w.put(s)
+		w.Put(s)
 	case api.KindFloat:
 		w.named(floatName, fbits.Hex(v.Bits))
 	case api.KindText:
@@ -45,76 +39,76 @@ func (w *writer) value(v api.Value) {
 	}
 }
 
-func (w *writer) flag(b bool) {
+func (w writer) flag(b bool) {
 	if b {
-		w.put("true")
+		w.Put("true")
 	} else {
-		w.put("false")
+		w.Put("false")
 	}
 }
 
 // named writes an object of one name and a text.
-func (w *writer) named(name, s string) {
-	w.put("{")
+func (w writer) named(name, s string) {
+	w.Put("{")
 	w.text(name)
-	w.put(":")
+	w.Put(":")
 	w.text(s)
-	w.put("}")
+	w.Put("}")
 }
 
-func (w *writer) list(l []api.Value) {
-	w.put("[")
+func (w writer) list(l []api.Value) {
+	w.Put("[")
 	for i, v := range l {
 		w.commaBehind(i)
 		w.value(v)
 	}
-	w.put("]")
+	w.Put("]")
 }
 
-func (w *writer) record(v api.Value) {
-	w.put("{")
+func (w writer) record(v api.Value) {
+	w.Put("{")
 	for i, name := range v.Names {
 		w.commaBehind(i)
 		if i == 0 && strings.HasPrefix(name, dollar) {
 			name = dollar + name
 		}
 		w.text(name)
-		w.put(":")
+		w.Put(":")
 		w.value(v.List[i])
 	}
-	w.put("}")
+	w.Put("}")
 }
 
 // commaBehind parts the next element from the n ahead of it.
-func (w *writer) commaBehind(n int) {
+func (w writer) commaBehind(n int) {
 	if n > 0 {
-		w.put(",")
+		w.Put(",")
 	}
 }
 
-func (w *writer) tag(name string, v api.Value) {
-	w.put("{")
+func (w writer) tag(name string, v api.Value) {
+	w.Put("{")
 	w.text(tagName)
-	w.put(":[")
+	w.Put(":[")
 	w.text(name)
-	w.put(",")
+	w.Put(",")
 	w.value(v)
-	w.put("]}")
+	w.Put("]}")
 }
 
 // text writes a text in quotes. It may go byte by byte: those that are told otherwise are characters of one byte.
-func (w *writer) text(s string) {
-	w.put(`"`)
+func (w writer) text(s string) {
+	w.Put(`"`)
 	for i := range len(s) {
 		c := s[i : i+1]
 		switch {
 		case c == `"` || c == `\`:
-			w.put(`\` + c)
+			w.Put(`\` + c)
 		case c < " ":
-			w.put(`\u00` + hex(c))
+			w.Put(`\u00` + hex(c))
 		default:
-			w.put(c)
+			w.Put(c)
 		}
 	}
-	w.put(`"`)
+	w.Put(`"`)
 }
