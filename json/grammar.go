@@ -5,6 +5,7 @@ import (
 
 	"calamus/api"
 	"calamus/fbits"
+	"calamus/hex"
 )
 
 // wait is what has to come next in a document.
@@ -185,7 +186,7 @@ func (r *Reader) float(s string) {
 }
 
 func (r *Reader) bytes(s string) {
-	b, ok := unhex(s)
+	b, ok := hex.Bytes(s)
 	if !ok {
 		panic(api.ErrJson)
 	}

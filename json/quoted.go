@@ -4,6 +4,7 @@ import (
 	"strings"
 
 	"calamus/api"
+	"calamus/hex"
 	"calamus/utf"
 )
 
@@ -88,8 +89,8 @@ func (q *quoted) digit(c byte) {
 	if c >= 'A' && c <= 'F' {
 		c += 'a' - 'A'
 	}
-	d := strings.IndexByte(hexDigits, c)
-	if d < 0 {
+	d, ok := hex.Digit(c)
+	if !ok {
 		panic(api.ErrJson)
 	}
 	q.digits++

@@ -5,6 +5,7 @@ import (
 
 	"calamus/api"
 	"calamus/fbits"
+	"calamus/hex"
 	"calamus/num"
 	"calamus/scribe"
 )
@@ -29,7 +30,7 @@ func (w writer) value(v api.Value) {
 	case api.KindText:
 		w.text(v.Text)
 	case api.KindBytes:
-		w.named(bytesName, hex(v.Text))
+		w.named(bytesName, hex.Pairs(v.Text))
 	case api.KindList:
 		w.list(v.List)
 	case api.KindRecord:
@@ -105,7 +106,7 @@ func (w writer) text(s string) {
 		case c == `"` || c == `\`:
 			w.Put(`\` + c)
 		case c < " ":
-			w.Put(`\u00` + hex(c))
+			w.Put(`\u00` + hex.Pairs(c))
 		default:
 			w.Put(c)
 		}
