@@ -10,7 +10,7 @@ import (
 	"calamus/tally"
 )
 
-// Of at most fewBytes bytes it must be known whether they are a document at all, ahead of telling that a limit is passed (P7.2, P8.2, P9.2).
+// Of at most fewBytes bytes it must be known whether they are a document at all, ahead of telling that a limit is passed (P7.2, P8.2, P9.2, P10.2).
 const fewBytes = 16
 
 // Teller is what was told of one document.
