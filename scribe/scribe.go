@@ -42,3 +42,10 @@ func (s *Scribe) Fixed(n uint64, width int) {
 	}
 	s.Put(string(b[len(b)-width:]))
 }
+
+// Part has lay lay out a part by itself, and answers its bytes: for formats that tell ahead of a part how long it is. To be called by Write's lay, or within a part, alone.
+func Part(lay func(s *Scribe)) string {
+	var s Scribe
+	lay(&s)
+	return string(s.out)
+}

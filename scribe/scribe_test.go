@@ -65,3 +65,23 @@ func TestFixed(t *testing.T) {
 		}
 	}
 }
+
+// A part is laid out by itself, and is no longer than a document may be.
+func TestPart(t *testing.T) {
+	for n := 65530; n < 65540; n++ {
+		long := strings.Repeat("a", n)
+		b, e := scribe.Write(null, func(s *scribe.Scribe, v api.Value) {
+			s.Put("x")
+			p := scribe.Part(func(s *scribe.Scribe) {
+				s.Put(scribe.Part(func(s *scribe.Scribe) { s.Put(long) }))
+			})
+			if p != long {
+				t.Errorf("a part of %d bytes has %d", n, len(p))
+			}
+			s.Put(p[:3])
+		})
+		if n <= 65536 && (string(b) != "xaaa" || e != api.OK) || n > 65536 && (len(b) > 0 || e != api.ErrLimit) {
+			t.Errorf("a part of %d bytes: %q, %d", n, b, e)
+		}
+	}
+}
