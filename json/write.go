@@ -7,6 +7,7 @@ import (
 	"calamus/fbits"
 	"calamus/hex"
 	"calamus/num"
+	"calamus/quote"
 	"calamus/scribe"
 )
 
@@ -97,19 +98,7 @@ func (w writer) tag(name string, v api.Value) {
 	w.Put("]}")
 }
 
-// text writes a text in quotes. It may go byte by byte: those that are told otherwise are characters of one byte.
+// text writes a text in quotes.
 func (w writer) text(s string) {
-	w.Put(`"`)
-	for i := range len(s) {
-		c := s[i : i+1]
-		switch {
-		case c == `"` || c == `\`:
-			w.Put(`\` + c)
-		case c < " ":
-			w.Put(`\u00` + hex.Pairs(c))
-		default:
-			w.Put(c)
-		}
-	}
-	w.Put(`"`)
+	w.Put(quote.Text(s))
 }
